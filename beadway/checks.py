@@ -1,12 +1,14 @@
-"""What a weight, a bead, a row and a moment are, and the refusal of what is none."""
+"""What a weight, a bead, a row, a moment and a kind of story are, and the refusal of what is none."""
 
-from beadway.errors import BadBead, BadMoment, BadRow
+from beadway.errors import BadBead, BadKind, BadMoment, BadRow
 from beadway.exact import compared, is_share, is_whole
 
 MOST_WEIGHT = 60
 MOST_TOP = 1000000
 MOST_BOTTOM = 60
 MOST_BEADS = 10
+STICK = "stick"
+BOUNCE = "bounce"
 
 
 def is_weight(value):
@@ -66,3 +68,9 @@ def need_moment(moment):
     """Refuse what is no moment."""
     if not is_share(moment) or moment[0] < 0:
         raise BadMoment("a moment is a share from 0 on")
+
+
+def need_kind(kind):
+    """Refuse what is no kind of story."""
+    if not isinstance(kind, str) or kind not in (STICK, BOUNCE):
+        raise BadKind("the beads of a story stick or bounce")

@@ -18,6 +18,11 @@ BARRED_WORDS = re.compile(r"\b(type|typing|typing_extensions|enum|Enum|IntEnum|S
 BARRED_NAMES = set("""register mro elements open input version_info with_traceback add_note attrgetter breakpoint builtins
     compile copyright credits delattr dir eval exec exit gc getattr globals hasattr help id importlib license locals
     methodcaller os quit setattr super type vars sys""".split())
+LISTED = {
+    "story": {"Story": "now events next back to push turn"},
+    "answers": {name: "shows" for name in ("Meet", "Never", "One", "Parted", "Right", "Wrong")},
+}
+ATTRIBUTES_LIKE_METHODS = set("count index title find get join lower upper split strip copy add".split())
 PLAIN = re.compile(r"[A-Za-z][A-Za-z0-9_]*\Z")
 
 
@@ -132,6 +137,25 @@ class LanguageTest(unittest.TestCase):
             for sign, right in zip(node.ops, node.comparators):
                 if isinstance(sign, (ast.Is, ast.IsNot)):
                     self.assertIn(getattr(right, "value", 0), (None, True, False), (name, node.lineno))
+
+    def test_listed_methods_stand_in_their_classes(self):
+        for name, tree in trees():
+            for node in tree.body:
+                listed = LISTED.get(name[:-3], {}).get(getattr(node, "name", None), "")
+                own = [part.name for part in getattr(node, "body", []) if isinstance(part, ast.FunctionDef)]
+                for method in listed.split():
+                    self.assertEqual(own.count(method), 1, (name, method))
+
+    def test_methods_and_attributes(self):
+        methods = {part.name for name, node in nodes(ast.ClassDef) for part in node.body if hasattr(part, "name")}
+        stored = {node.attr for name, node in nodes(ast.Attribute) if isinstance(node.ctx, ast.Store)}
+        builtin = {word for kind in (str, int, list, tuple, dict, set, bytes) for word in dir(kind)}
+        self.assertEqual(methods & stored, set())
+        self.assertEqual(stored & builtin - ATTRIBUTES_LIKE_METHODS, set())
+        self.assertEqual((methods - {"__init__"}) & builtin, set())
+        for name, node in nodes(ast.Attribute):
+            if isinstance(node.ctx, ast.Load):
+                self.assertIn(node.attr, methods | stored | builtin, (name, node.lineno))
 
 
 if __name__ == "__main__":
