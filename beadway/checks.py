@@ -46,6 +46,11 @@ def is_bead_of(row, bead):
     return is_whole(bead) and 0 <= bead < len(row)
 
 
+def is_moment(value):
+    """Whether it is a moment."""
+    return is_share(value) and value[0] >= 0
+
+
 def need_row(row):
     """Refuse what is no row."""
     if not is_row(row):
@@ -66,7 +71,7 @@ def need_stretch(row, first, last):
 
 def need_moment(moment):
     """Refuse what is no moment."""
-    if not is_share(moment) or moment[0] < 0:
+    if not is_moment(moment):
         raise BadMoment("a moment is a share from 0 on")
 
 

@@ -2,8 +2,8 @@
 
 from beadway.checks import STICK
 from beadway.errors import Crowded, TooMany
-from beadway.exact import added, lessened
-from beadway.knocks import knock_speeds, stuck_speed
+from beadway.exact import added, lessened, weighed_mean
+from beadway.knocks import knock_speeds
 from beadway.rows import stretch_weights
 from beadway.runs import by_places, first_wait, met_stretches, moved, part_stretch
 
@@ -35,7 +35,7 @@ def stuck_run(row, part):
     """The one run that those at one place are from then on."""
     weights = [sum(stretch_weights(row, first, last)) for first, last, place, speed in part]
     first, last = part_stretch(part)
-    return (first, last, part[0][2], stuck_speed(weights, part_speeds(part)))
+    return (first, last, part[0][2], weighed_mean(weights, part_speeds(part)))
 
 
 def bounced_speeds(row, part):

@@ -62,6 +62,15 @@ def compared(one, other):
     return 0
 
 
+def latest(moments):
+    """The greatest of some moments; 0 if there are none."""
+    last = NOUGHT
+    for moment in moments:
+        if compared(moment, last) > 0:
+            last = moment
+    return last
+
+
 def scaled(number, one):
     """A whole number times a share."""
     return lowest(number * one[0], one[1])
@@ -73,3 +82,8 @@ def weighed_sum(weights, shares):
     for weight, one in zip(weights, shares):
         total = added(total, scaled(weight, one))
     return total
+
+
+def weighed_mean(weights, shares):
+    """Each weight times its share, together, parted by all weights."""
+    return parted(weighed_sum(weights, shares), (sum(weights), 1))

@@ -2,21 +2,16 @@
 
 from beadway.checks import is_weight
 from beadway.errors import BadShare, BadWeight
-from beadway.exact import is_share, lessened, multiplied, parted, weighed_sum
+from beadway.exact import is_share, lessened, multiplied, weighed_mean
 
 
 def knock_speeds(weight, other, one, two):
     """The speeds of two that bounce."""
     # Seen from the middle of both, a bounce turns each speed about and keeps its size:
     # so drive and weight times speed times speed stay.
-    common_speed = stuck_speed([weight, other], [one, two])
+    common_speed = weighed_mean([weight, other], [one, two])
     twice = multiplied((2, 1), common_speed)
     return (lessened(twice, one), lessened(twice, two))
-
-
-def stuck_speed(weights, speeds):
-    """The speed of those that stick."""
-    return parted(weighed_sum(weights, speeds), (sum(weights), 1))
 
 
 def need_weights(weights):
@@ -46,4 +41,4 @@ def stuck(weights, speeds):
     if not isinstance(speeds, list) or len(speeds) != len(weights):
         raise BadWeight("there is no list of as many speeds as weights")
     need_speeds(speeds)
-    return stuck_speed(weights, speeds)
+    return weighed_mean(weights, speeds)

@@ -1,7 +1,7 @@
 """Rows of beads: what a stretch weighs, its drive, straight places and middles."""
 
 from beadway.checks import need_bead, need_moment, need_row, need_stretch
-from beadway.exact import added, multiplied, parted, weighed_sum
+from beadway.exact import added, multiplied, weighed_mean, weighed_sum
 
 
 def stretch_weights(row, first, last):
@@ -15,17 +15,15 @@ def straight_place(bead, moment):
     return added(place, multiplied(speed, moment))
 
 
-def stretch_drive(row, first, last):
-    """The drive of a stretch of a row."""
-    speeds = [speed for weight, place, speed in row[first:last + 1]]
-    return weighed_sum(stretch_weights(row, first, last), speeds)
+def stretch_speeds(row, first, last):
+    """The speeds of the beads of a stretch."""
+    return [speed for weight, place, speed in row[first:last + 1]]
 
 
 def stretch_middle(row, first, last, moment):
     """The middle of a stretch of a row at a moment."""
-    weights = stretch_weights(row, first, last)
     places = [straight_place(bead, moment) for bead in row[first:last + 1]]
-    return parted(weighed_sum(weights, places), (sum(weights), 1))
+    return weighed_mean(stretch_weights(row, first, last), places)
 
 
 def weight_of(row, first, last):
@@ -39,7 +37,7 @@ def drive_of(row, first, last):
     """Each one's weight times its speed, from the first to the last, together."""
     need_row(row)
     need_stretch(row, first, last)
-    return stretch_drive(row, first, last)
+    return weighed_sum(stretch_weights(row, first, last), stretch_speeds(row, first, last))
 
 
 def straight(row, bead, moment):

@@ -117,3 +117,24 @@ def assert_refused(case, kind, call, *given):
         case.assertIs(type(error), kind)
     else:
         case.fail(f"{call.__name__} refuses nothing where {kind.__name__} is told")
+
+
+def no_events():
+    """What is no list of at most 60 pairs of a moment and a list of pairs of whole numbers."""
+    event = ((1, 1), [(0, 1)])
+    events = [(moment, [(0, 1)]) for moment in no_moments()]
+    events += [((1, 1), bad) for bad in anything() + [0, (), (0, 1), ((0, 1),), ((0, 1), (2, 3))]]
+    stretches = anything() + [0, (), (0,), (0, 1, 2), [0, 1], [], [(0, 1)], ((0, 1),)]
+    stretches += [(bad, 1) for bad in no_wholes()] + [(0, bad) for bad in no_wholes()]
+    events += [((1, 1), [bad]) for bad in stretches]
+    events += anything() + [0, (), event[:1], event + ((0, 1),), list(event), (event,), (event[1], event[0])]
+    lists = [[bad] for bad in events] + [[event, bad] for bad in events] + [[bad, event] for bad in events[::4]]
+    return anything() + lists + [(), (event,), event, 0, 1, {0: event}, [event] * 61, [event] * 62, [event] * 1000]
+
+
+def no_texts():
+    """What is no text at all, or none of a row, whatever row it stands for."""
+    words = ["", " ", ",", ", ", "/", "-", "1", "1/1", "1 1/1", "1 1/1 ", "1 1/1 1", "1 1 1/1", "1/1 1/1 1/1", "x",
+             "1 0/1 0/1,", "1 0/1 0/1, ", ", 1 0/1 0/1", " 1 0/1 0/1", "1 0/1 0/1 ", "1 0/1 0/1\n", "\n1 0/1 0/1"]
+    others = [bad for bad in no_wholes() if not isinstance(bad, str)]
+    return others + words + [0, 1, ["1 0/1 0/1"], ("1 0/1 0/1",), b"1 0/1 0/1", [(1, (0, 1), (0, 1))]]

@@ -4,6 +4,7 @@ Those who stick have, as their line, the middle of the lines, by weight; a bounc
 So no place is carried on from meeting to meeting, as the program does it.
 """
 
+import functools
 import random
 from fractions import Fraction
 
@@ -189,3 +190,67 @@ def small_rows(seed, count):
 def light_between(start=0, place=9):
     """Three beads, a light one between two heavy ones that come together: seventeen exchanges of unlike weights."""
     return [(60, (start, 1), (1, 1)), (1, (start + place, 1), (0, 1)), (60, (start + 20, 1), (-1, 1))]
+
+
+@functools.lru_cache(maxsize=4096)
+def middle_of_beads(beads, moment):
+    weighed = sum(bead[0] * (Fraction(*bead[1]) + Fraction(*bead[2]) * moment) for bead in beads)
+    return weighed / sum(bead[0] for bead in beads)
+
+
+def own_middle(row, first, last, moment):
+    return middle_of_beads(tuple(row[first:last + 1]), moment)
+
+
+def own_one(row, moment, one, other, first, last):
+    if not 0 <= first <= one < other <= last < len(row):
+        return False
+    return all(own_middle(row, first, cut, moment) >= own_middle(row, cut + 1, last, moment)
+               for cut in range(first, last))
+
+
+def own_parted(row, moment, one, other, cut):
+    if not one <= cut < other:
+        return False
+    lefts = [own_middle(row, first, cut, moment) for first in range(cut + 1)]
+    rights = [own_middle(row, cut + 1, last, moment) for last in range(cut + 1, len(row))]
+    return max(lefts) < min(rights)
+
+
+def spoiled(right):
+    """Lists of events that aren't right, each with the count of its first fault."""
+    lists = [(right + [((10 ** 300 + 1, 1), [(0, 1)])], len(right))]
+    for at, (moment, stretches) in enumerate(right):
+        later = told(Fraction(*moment) + Fraction(1, 7))
+        lists.append((right[:at], at))
+        lists.append((right[:at] + right[at + 1:], at))
+        lists.append((right[:at] + [(later, stretches)] + right[at + 1:], at))
+        lists.append((right[:at] + [(moment, stretches + [(0, 1)])] + right[at + 1:], at))
+        lists.append((right[:at] + [(moment, [])] + right[at + 1:], at))
+        lists.append((right[:at] + [(moment, [(stretches[0][1], stretches[0][0])])] + right[at + 1:], at))
+        lists.append((right[:at + 1] + right[at:], at + 1))
+        if at + 1 < len(right):
+            lists.append((right[:at] + [right[at + 1], right[at]] + right[at + 2:], at))
+    if len(right) > 1:
+        lists.append((right[::-1], 0))
+    return lists
+
+
+def near_moments(moments):
+    """Moment 0, near and far ones, and each of these, just ahead of it and just behind it."""
+    tiny = Fraction(1, 10 ** 40)
+    found = [Fraction(0), tiny, Fraction(1, 3), Fraction(5, 2), Fraction(40), Fraction(10 ** 60)]
+    for moment in moments:
+        found += [moment - tiny, moment, moment + tiny]
+    return found
+
+
+def exchanges(events):
+    """How many exchanges these events make: each stretch as many as it has pairs."""
+    sizes = [last - first + 1 for moment, stretches in events for first, last in stretches]
+    return sum(size * (size - 1) // 2 for size in sizes)
+
+
+def alike_rows(seed, count):
+    """Rows of small numbers, each of one weight."""
+    return [[(1 + at % 60,) + bead[1:] for bead in row] for at, row in enumerate(small_rows(seed, count))]

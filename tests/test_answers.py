@@ -8,33 +8,12 @@ from beadway import answers
 from beadway.answers import Meet, Never, One, Parted, Right, Wrong
 from beadway.story import Story
 from tests.helpers import some_rows, told
-from tests.own import Course, light_between, small_rows
+from tests.own import Course, light_between, own_one, own_parted, small_rows, spoiled
 
 GREAT = 10 ** 300 + 1
 MOMENTS = [Fraction(0), Fraction(1, 3), Fraction(1), Fraction(7, 2), Fraction(40), Fraction(10 ** 60),
            Fraction(1, 10 ** 60)]
 MEETS = [(3, (0, 1), (2, 1)), (1, (4, 1), (-1, 2)), (2, (5, 1), (-1, 2))]
-
-
-def own_middle(row, first, last, moment):
-    beads = row[first:last + 1]
-    weighed = sum(bead[0] * (Fraction(*bead[1]) + Fraction(*bead[2]) * moment) for bead in beads)
-    return weighed / sum(bead[0] for bead in beads)
-
-
-def own_one(row, moment, one, other, first, last):
-    if not 0 <= first <= one < other <= last < len(row):
-        return False
-    return all(own_middle(row, first, cut, moment) >= own_middle(row, cut + 1, last, moment)
-               for cut in range(first, last))
-
-
-def own_parted(row, moment, one, other, cut):
-    if not one <= cut < other:
-        return False
-    lefts = [own_middle(row, first, cut, moment) for first in range(cut + 1)]
-    rights = [own_middle(row, cut + 1, last, moment) for last in range(cut + 1, len(row))]
-    return max(lefts) < min(rights)
 
 
 class ClassesTest(unittest.TestCase):
@@ -212,24 +191,6 @@ class JudgedTest(unittest.TestCase):
             self.assertIs(Wrong(count).shows(row, kind, moment, events), count == fault)
         self.assertEqual((row, events), before)
 
-    def spoiled(self, right):
-        """Lists of events that aren't right, each with the count of its first fault."""
-        lists = [(right + [((GREAT, 1), [(0, 1)])], len(right))]
-        for at, (moment, stretches) in enumerate(right):
-            later = told(Fraction(*moment) + Fraction(1, 7))
-            lists.append((right[:at], at))
-            lists.append((right[:at] + right[at + 1:], at))
-            lists.append((right[:at] + [(later, stretches)] + right[at + 1:], at))
-            lists.append((right[:at] + [(moment, stretches + [(0, 1)])] + right[at + 1:], at))
-            lists.append((right[:at] + [(moment, [])] + right[at + 1:], at))
-            lists.append((right[:at] + [(moment, [(stretches[0][1], stretches[0][0])])] + right[at + 1:], at))
-            lists.append((right[:at + 1] + right[at:], at + 1))
-            if at + 1 < len(right):
-                lists.append((right[:at] + [right[at + 1], right[at]] + right[at + 2:], at))
-        if len(right) > 1:
-            lists.append((right[::-1], 0))
-        return lists
-
     def test_small_rows(self):
         sizes = set()
         for at, row in enumerate(small_rows(12, 50)):
@@ -241,7 +202,7 @@ class JudgedTest(unittest.TestCase):
                     right = course.events_to(moment)
                     sizes.add(len(right))
                     self.check(row, kind, told(moment), right, None)
-                    for events, fault in self.spoiled(right)[at % 4::4]:
+                    for events, fault in spoiled(right)[at % 4::4]:
                         self.check(row, kind, told(moment), events, fault)
         self.assertGreater(sizes, {0, 1, 2, 3, 5, 8})
 

@@ -6,15 +6,20 @@ import itertools
 import unittest
 
 from beadway.answers import Answer
-from beadway.errors import BadBead, BadKind, BadMoment, BadRow, BadShare, BadWeight
+from beadway.atonce import bounced_at, ended, last_met, met, stuck_at, together
+from beadway.errors import BadBead, BadEvents, BadKind, BadMoment, BadRow, BadShare, BadText, BadWeight
+from beadway.judging import judged
 from beadway.knocks import bounced, stuck
 from beadway.meetings import first_meet, pair_meets
 from beadway.rows import drive_of, middle, straight, weight_of
 from beadway.shares import minus, order, over, plus, share, times
 from beadway.story import Story
+from beadway.texts import read, written
+from beadway.turning import carried, mirrored, slowed
 from tests import helpers
 
 ROW = helpers.line(4)
+ALIKE = [(5,) + bead[1:] for bead in ROW]
 MOMENT = (7, 2)
 
 
@@ -81,6 +86,28 @@ def doors():
         (Story(ROW, "bounce").to, "moment", (MOMENT,), [moments]),
         (Story(ROW, "bounce").push, "bead speed", (1, (1, 2)),
          [(BadBead, helpers.no_bead_of(ROW)), (BadShare, helpers.no_row_shares())]),
+    ] + later_doors()
+
+
+def later_doors():
+    """The doors of points 16 to 22."""
+    rows = (BadRow, helpers.no_rows())
+    moments = (BadMoment, helpers.no_moments())
+    return [
+        (stuck_at, "row moment", (ROW, MOMENT), [rows, moments]),
+        (together, "row moment one other", (ROW, MOMENT, 1, 2),
+         [rows, moments, (BadBead, helpers.no_bead_of(ROW) + [2, 3]), (BadBead, helpers.no_bead_of(ROW) + [0, 1])]),
+        (ended, "row", (ROW,), [rows]),
+        (bounced_at, "row moment", (ALIKE, MOMENT), [rows, moments]),
+        (met, "row moment", (ALIKE, MOMENT), [rows, moments]),
+        (last_met, "row", (ALIKE,), [rows]),
+        (judged, "row kind moment events", (ROW, "stick", MOMENT, [((1, 1), [(0, 1)])]),
+         [rows, (BadKind, no_kinds()), moments, (BadEvents, helpers.no_events())]),
+        (mirrored, "row", (ROW,), [rows]),
+        (carried, "row speed", (ROW, (1, 7)), [rows, (BadShare, helpers.no_shares())]),
+        (slowed, "row share", (ROW, (1, 7)), [rows, (BadShare, helpers.no_shares() + [(0, 1), (-1, 7)])]),
+        (written, "row", (ROW,), [rows]),
+        (read, "text", ("1 0/1 0/1",), [(BadText, helpers.no_texts())]),
     ]
 
 
@@ -123,6 +150,14 @@ class DoorsTest(unittest.TestCase):
             for call in (weight_of, drive_of):
                 helpers.assert_refused(self, BadRow, call, row, 2, 1)
             helpers.assert_refused(self, BadRow, middle, row, 2, 1, (-1, 1))
+
+    def test_one_bad_bead_at_any_place_of_a_long_row(self):
+        for call, names, good, wrong in doors():
+            if names.startswith("row"):
+                for at, bad in itertools.product(range(10), helpers.no_beads()[::6]):
+                    row = helpers.line(10)
+                    row[at] = bad
+                    helpers.assert_refused(self, BadRow, call, row, *good[1:])
 
     def test_everything_wrong_at_once(self):
         for call, names, good, wrong in doors():
